@@ -126,13 +126,12 @@ func TestOverhead(t *testing.T) {
 			more = append(more, x)
 		}
 		d, _ := duet.New(a, b, 1<<40, p)
-		items := 0
 		for !d.Ended() {
 			d.Run(1)
 		}
 		said := d.Lead().Ledger()
 		said.Add(d.Follow().Ledger())
-		items = bound.Payload(more)
+		items := bound.Payload(more)
 		if d.Lead().State() != api.Well || said.Total().Bytes-uint64(items) > uint64(bound.Overhead(p, own.Len(), theirs.Len())) {
 			t.Fatal("overhead", said.Total().Bytes, items, bound.Overhead(p, own.Len(), theirs.Len()))
 		}
