@@ -37,13 +37,12 @@ func TestNew(t *testing.T) {
 		t.Error("a realm")
 	}
 	told(t, c, "", "", "#", "", "# new", "", "put 0 6b 76 0", "error 24", "quiet", "error 24", "store 0", "error 24", "same", "error 24", "verdict", "error 24",
-		"new", "error 11", "new 2 9 5 1 1", "error 11", "new 2 9 5 1 1 50 1", "error 11", "new 2 9 5 1 1 1048577", "error 11", "new 02 9 5 1 1 50", "error 11", "new 2 9 5 1 1 x", "error 11", "new 2 9 5 1 -1 50", "error 11",
 		"new 1 9 5 1 1 50", "error 2", "new 2 257 5 1 1 50", "error 2", "new 2 9 0 1 1 50", "error 2", "met", "error 24", "new 3 9 5 1 1 1048576", "ok")
 	r := c.Realm()
 	if r.Nodes() != 3 || r.Node(0).Store().Most() != 9 {
 		t.Error("new")
 	}
-	told(t, c, "new 1 9 5 1 1 50", "error 2")
+	told(t, c, "new 1 9 5 1 1 50", "error 2", "new", "error 11", "new 2 9 5 1 1", "error 11", "new 2 9 5 1 1 50 1", "error 11", "new 2 9 5 1 1 1048577", "error 11", "new 02 9 5 1 1 50", "error 11", "new 2 9 5 1 1 x", "error 11", "new 2 9 5 1 -1 50", "error 11")
 	if c.Realm() != r {
 		t.Error("another realm beside an error")
 	}

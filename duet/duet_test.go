@@ -147,7 +147,8 @@ func TestFates(t *testing.T) {
 	for n := 2; n < 64; n++ {
 		step(api.DoubleTo, 0, 0, true, n+1, 0)
 	}
-	step(api.DoubleTo, 0, 0, false, 64, 0)
+	d.Step(api.Fate{Kind: api.DoubleTo})
+	is(t, d, 64, 0)
 	step(api.FateTick, 1000, 0, true, 64, 0) // what is said is lost
 	if d.Lead().Ledger().Row(api.Count).Frames != 3 {
 		t.Error(d.Lead().Ledger().Text())
