@@ -75,8 +75,11 @@ func TestFilter(t *testing.T) {
 	if all := of(t, 512, l[:20]...); err != api.OK || !bytes.Equal(put(u), put(all)) {
 		t.Error("union", err)
 	}
-	u.Add(l[30])
-	if f.May(l[30]) && g.May(l[30]) {
+	before := put(f)
+	for _, m := range l {
+		u.Add(m)
+	}
+	if u, _ = f.Union(g); !bytes.Equal(put(f), before) || bytes.Equal(put(u), before) {
 		t.Error("a union isn't apart")
 	}
 	if u, err := f.Union(of(t, 520)); u != nil || err != api.ErrArg {

@@ -155,6 +155,41 @@ func TestFates(t *testing.T) {
 	}
 }
 
+// P27.1: rounds, one by one: a tick of 1, where there is nothing on the ways.
+func TestRounds(t *testing.T) {
+	a, b := fresh(t, 0, 9), fresh(t, 1, 9)
+	fill(a, 0, 2)
+	d := begun(t, a, b, plan)
+	d.Step(api.Fate{Kind: api.LoseTo})
+	for now := 1; now < 4; now++ {
+		if n := d.Run(1); n != 1 || d.Now() != now {
+			t.Error(n, d.Now())
+		}
+	}
+	is(t, d, 1, 0)
+	for _, n := range []int{0, -1, math.MinInt} {
+		if d.Run(n) != 0 || d.Now() != 3 {
+			t.Error(n)
+		}
+	}
+	if d.Run(1); d.Follow() == nil || d.Lead().Ledger().Row(api.Count).Frames != 1 {
+		t.Error("a round there and back")
+	}
+	// A lead that ends without a follow.
+	e := begun(t, fresh(t, 0, 9), fresh(t, 1, 9), plan)
+	e.Step(api.Fate{Kind: api.LoseTo})
+	for range 3 {
+		if e.Ended() {
+			t.Error("ended too early")
+		}
+		e.Step(api.Fate{Kind: api.FateTick, N: 100})
+		e.Step(api.Fate{Kind: api.LoseTo})
+	}
+	if !e.Ended() || e.Follow() != nil || e.Lead().Why() != 26 || e.Run(5) != 0 {
+		t.Error("hasn't ended", e.Lead().State())
+	}
+}
+
 // P27.2: the same fates make the same.
 func TestSameFates(t *testing.T) {
 	r := rand.New(rand.NewSource(35))

@@ -97,6 +97,9 @@ func TestAllAndTurn(t *testing.T) {
 	if !bytes.Equal(got, []byte{1, 0xf2, 3}) || l[1] != 2 {
 		t.Error(got, l)
 	}
+	if got = frame.Turn(l, 0, 3); !bytes.Equal(got, []byte{2, 2, 3}) {
+		t.Error(got)
+	}
 	for _, at := range []int{-1, 3, 1 << 40} {
 		if got := frame.Turn(l, at, 1); !bytes.Equal(got, l) {
 			t.Error(at, got)

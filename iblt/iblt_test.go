@@ -53,7 +53,7 @@ func TestMakers(t *testing.T) {
 	r := rand.New(rand.NewSource(12))
 	for _, m := range some(r, 200) {
 		h := sip.Hash(sip.Seed(4), m[:])
-		for _, size := range []int{3, 6, 96, 1536} {
+		for _, size := range []int{3, 6, 15, 96, 300, 1536} {
 			third := uint64(size / 3)
 			want := [3]int{int(h & 0x1fffff % third), int(third + h>>21&0x1fffff%third), int(2*third + h>>42&0x1fffff%third)}
 			if got := iblt.Places(size, m); got != want {

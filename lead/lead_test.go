@@ -275,6 +275,66 @@ func TestSketchesThatDontHold(t *testing.T) {
 	}
 }
 
+// asked: a session in which the other one's sketches are changed; which sizes and pages were asked for.
+func asked(t *testing.T, a *store.Store, theirs *pin.Pin, change func(size int, s *iblt.Sketch)) (*lead.Lead, []int, int) {
+	l, m := begun(t, a, plan)
+	var asks []int
+	wants := 0
+	for ok := true; ok; {
+		got := answer(theirs, m, func(api.Item) {})
+		switch m.Kind {
+		case api.Ask:
+			if m.Part == 0 {
+				asks = append(asks, m.Size)
+			}
+			sketch, _ := theirs.Sketch(m.Size)
+			change(len(asks), sketch)
+			from, to, _ := sizes.Range(m.Size, m.Part)
+			got.Cells = nil
+			for i := from; i < to; i++ {
+				c, _ := sketch.Cell(i)
+				got.Cells = append(got.Cells, c)
+			}
+		case api.Want:
+			wants++
+		}
+		m, ok = l.Hear(got, 1)
+	}
+	return l, asks, wants
+}
+
+// P25.1: a sketch that doesn't hold, and the next one that does; and differences that would make the root, but are none.
+func TestNextSketch(t *testing.T) {
+	a, b := fresh(t, 0, 256), fresh(t, 1, 256)
+	fill(a, 0, 40)
+	for x := range a.Items() {
+		b.Take(x)
+	}
+	fill(b, 50, 60)
+	theirs := pin.Of(b)
+	foreign := api.Mark{1, 2, 3}
+	own := pin.Of(a).Marks()[3]
+	for i, c := range []struct {
+		change func(n int, s *iblt.Sketch)
+		asks   int
+		wants  bool
+	}{
+		{func(n int, s *iblt.Sketch) {}, 1, false},
+		{func(n int, s *iblt.Sketch) {
+			if n == 1 {
+				s.Add(foreign)
+			}
+		}, 2, false},
+		{func(n int, s *iblt.Sketch) { s.Remove(foreign) }, 2, true}, // of Plus, but no mark of the pin
+		{func(n int, s *iblt.Sketch) { s.Add(own) }, 2, true},        // of Minus, but a mark of the pin
+	} {
+		l, asks, wants := asked(t, a.Clone(), theirs, c.change)
+		if used, pages := l.Used(); len(asks) != c.asks || (wants > 0) != c.wants || used != c.asks || pages != wants || l.State() != api.Well || len(l.Taken()) != 10 {
+			t.Error(i, asks, wants, used, pages, l.State())
+		}
+	}
+}
+
 // P25.1: what says nothing.
 func TestSaysNothing(t *testing.T) {
 	a, b := fresh(t, 0, 9), fresh(t, 1, 9)
@@ -293,6 +353,15 @@ func TestSaysNothing(t *testing.T) {
 				{Kind: api.Cells, Sid: 9, Size: 3, Cells: make([]api.Cell, 3)}, {Kind: api.Bye, Sid: 8, Why: 3}}
 			if m.Kind != api.Done {
 				wrong = append(wrong, api.Msg{Kind: api.Bye, Sid: 9})
+			}
+			if m.Kind != api.Push {
+				wrong = append(wrong, api.Msg{Kind: api.Got, Sid: 9, Part: m.Part})
+			}
+			if m.Kind != api.Count {
+				wrong = append(wrong, api.Msg{Kind: api.Level, Sid: 9, Part: m.Part, Cells: make([]api.Cell, 12)})
+			}
+			if m.Kind != api.Ask {
+				wrong = append(wrong, api.Msg{Kind: api.Cells, Sid: 9, Size: 12, Part: m.Part, Cells: make([]api.Cell, 12)})
 			}
 			if m.Kind != api.Hello {
 				wrong = append(wrong, api.Msg{Kind: api.Meet, Sid: 9})
@@ -431,6 +500,21 @@ func TestFullWalk(t *testing.T) {
 	}
 	if _, used := l.Used(); !msg.Same(m, api.Msg{Kind: api.Bye, Sid: 9, Why: 20}) || used != 4096 {
 		t.Error(m, used)
+	}
+}
+
+// P25.1: a request is kept apart from what was said.
+func TestFetchAgain(t *testing.T) {
+	b := fresh(t, 1, 9)
+	fill(b, 0, 3)
+	theirs := pin.Of(b)
+	l, m := begun(t, fresh(t, 0, 9), plan)
+	for m.Kind != api.Fetch {
+		m, _ = l.Hear(answer(theirs, m, nil), 1)
+	}
+	clear(m.Marks)
+	if again, ok := l.Tick(99); !ok || again.Kind != api.Fetch || !marks.Same(again.Marks, theirs.Marks()) {
+		t.Error(again)
 	}
 }
 

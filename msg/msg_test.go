@@ -136,6 +136,16 @@ func TestWrong(t *testing.T) {
 			t.Error(i, m.Kind)
 		}
 	}
+	var just []api.Item
+	for i := range 20 {
+		just = append(just, api.Item{Key: "k", Dot: api.Dot{N: i + 1}, Value: make([]byte, 63)})
+	}
+	if msg.Weigh(just) != 1400 || !msg.Right(api.Msg{Kind: api.Give, Sid: 1, Items: just}) {
+		t.Error("1400 bytes", msg.Weigh(just))
+	}
+	if just[0].Value = make([]byte, 64); msg.Right(api.Msg{Kind: api.Give, Sid: 1, Items: just}) {
+		t.Error("1401 bytes")
+	}
 	if !msg.Right(api.Msg{Kind: api.Give, Sid: 1, Items: many[:40]}) || !msg.Right(api.Msg{Kind: api.Push, Sid: 1, Items: wide[:len(wide)-1]}) {
 		t.Error("most items")
 	}

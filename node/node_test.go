@@ -321,6 +321,9 @@ func TestNil(t *testing.T) {
 	if x.Id() != 0 || x.Store() != nil || x.Count() != 0 || l != nil || err != api.ErrNil || x.Hear(api.Mail{}, 0) != nil || x.Tick(1) != nil || x.Lead() != nil || p != 0 || ok || x.Follow(0) != nil || x.Ends() != nil || x.Bad() != 0 || x.Ledger() != nil {
 		t.Error("nil")
 	}
+	if fresh(t, 7, 8).Follow(8) != nil {
+		t.Error("a ninth one")
+	}
 	y := fresh(t, 0, 2)
 	for _, of := range []int{-1, 0, 2, 8, math.MaxInt} {
 		if y.Follow(of) != nil {

@@ -47,7 +47,7 @@ func TestNote(t *testing.T) {
 		}
 	}
 	b := fresh(t, 8)
-	if b.Nodes() != 8 {
+	if b.Nodes() != 8 || fresh(t, 1).Nodes() != 1 {
 		t.Error(b.Nodes())
 	}
 	x, y := item(t, "6b 1:1 [0:3] 76"), item(t, "6b 0:1 [-] 77")
@@ -141,11 +141,15 @@ func TestLiveAndStands(t *testing.T) {
 	if b.Live(-1, "k") != nil || b.Live(2, "k") != nil {
 		t.Error("live of no node")
 	}
+	b.Note(1, item(t, "6c 0:1 [-] 78"))
+	if got := texts(b.Stands()); got != "6a 0:1 [-] gone, 6b 1:1 [0:1] 77, 6c 0:1 [-] 78" {
+		t.Error(got)
+	}
 	all := b.All()
 	all[2].Value[0] = 'x'
 	b.Live(0, "k")[0].Value[0] = 'x'
 	b.Stands()[1].Value[0] = 'x'
-	if texts(b.All()) != "6a 0:1 [-] gone, 6b 0:1 [-] 76, 6b 1:1 [0:1] 77" || texts(b.Live(0, "k")) != "6b 0:1 [-] 76" {
+	if texts(b.All()) != "6a 0:1 [-] gone, 6b 0:1 [-] 76, 6b 1:1 [0:1] 77, 6c 0:1 [-] 78" || texts(b.Live(0, "k")) != "6b 0:1 [-] 76" {
 		t.Error("answers are shared")
 	}
 }

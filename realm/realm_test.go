@@ -286,6 +286,33 @@ func TestQuiet(t *testing.T) {
 	}
 }
 
+// P31.2: quiet ends behind 100000 events at the latest.
+func TestNeverQuiet(t *testing.T) {
+	r := fresh(t, 2)
+	r.Node(0).Sync(1, 1<<50) // whose request isn't under way, and isn't said again for long
+	if n := r.Quiet(); n != 100000 || r.Now() != 100000 {
+		t.Error(n, r.Now())
+	}
+}
+
+// P31.2: what is under way ends first, and then its rounds settle it.
+func TestSettleBehindOthers(t *testing.T) {
+	r := fresh(t, 3)
+	r.Run(put(0, "k", "v"), put(1, "l", "w"), api.Event{Kind: api.EvSync, A: 0, B: 2}, api.Event{Kind: api.EvSync, A: 1, B: 0}, api.Event{Kind: api.EvDeliver})
+	if !r.Settle(1) || !r.Same() {
+		t.Error("isn't settled")
+	}
+	led := 0
+	for _, c := range r.Closed() {
+		if c.End.Led && c.End.State == api.Well {
+			led++
+		}
+	}
+	if led != 2+6 {
+		t.Error(led)
+	}
+}
+
 // P31.1: the book notes what stores have; what closes is told in order.
 func TestBookAndClosed(t *testing.T) {
 	r := fresh(t, 2)
@@ -377,6 +404,30 @@ func TestMet(t *testing.T) {
 	p.Run(api.Event{Kind: api.EvSync, A: 0, B: 1}, api.Event{Kind: api.EvTurn, B: 4, X: 9}, api.Event{Kind: api.EvTurn, B: 4, X: 9}, api.Event{Kind: api.EvDeliver})
 	if p.Met() || p.Node(0).Bad() != 0 || p.Flying() != 1 {
 		t.Error("turned and turned back")
+	}
+}
+
+// P31.1: it has met, when two unlike frames that nodes said have the same last eight bytes.
+func TestMetFrames(t *testing.T) {
+	values := [2][]byte{{0x6a, 0x6f, 0x28, 0x85, 0xcb, 0xdd, 0x57, 0xc0}, {0x8f, 0x26, 0x6e, 0x0d, 0x2c, 0x24, 0x83, 0x79}}
+	var frames [2][]byte
+	for i, v := range values {
+		frames[i] = msg.Put(api.Msg{Kind: api.Push, Sid: i + 1, Items: []api.Item{{Key: "k", Dot: api.Dot{N: i + 1}, Value: v}}})
+	}
+	if n := len(frames[0]) - 8; bytes.Equal(frames[0], frames[1]) || !bytes.Equal(frames[0][n:], frames[1][n:]) {
+		t.Fatal("the sums aren't the same")
+	}
+	for _, second := range []string{string(values[1]), "another"} {
+		r := fresh(t, 2)
+		r.Run(put(0, "k", string(values[0])), api.Event{Kind: api.EvSync, A: 0, B: 1})
+		if r.Quiet(); r.Met() {
+			t.Error("met too early")
+		}
+		r.Run(put(0, "k", second), api.Event{Kind: api.EvSync, A: 0, B: 1})
+		r.Quiet()
+		if !r.Same() || r.Met() != (second == string(values[1])) {
+			t.Error("met", r.Met())
+		}
 	}
 }
 

@@ -302,6 +302,36 @@ func TestBytesAndLoad(t *testing.T) {
 	}
 }
 
+// P7.2: what is handed in and answered is apart from the store.
+func TestWritesApart(t *testing.T) {
+	s := fresh(t, 0, 9)
+	s.Put("k", nil, []byte("u"))
+	value, past := []byte("v"), clock("0:1 3:4")
+	x, _ := s.Put("k", past, value)
+	value[0], past[0].To = 'w', 9
+	x.Value[0], x.Past[1].To = 'x', 9
+	y, _ := s.Put("k", nil, value)
+	if y.Value[0] = 'y'; value[0] != 'w' || texts(s) != "6b 0:2 [0:1 3:4] 76, 6b 0:3 [-] 77" {
+		t.Error("shared", texts(s))
+	}
+}
+
+// P7.5: the most that a store may have.
+func TestMost(t *testing.T) {
+	s := fresh(t, 0, 256)
+	for i := range 256 {
+		for range 8 {
+			if _, err := s.Put("k"+strconv.Itoa(i), nil, nil); err != api.OK {
+				t.Fatal(i, err)
+			}
+		}
+	}
+	back, err := store.Load(1, 256, s.Bytes())
+	if err != api.OK || back.Count() != 2048 || !store.Same(back, s) {
+		t.Error(err)
+	}
+}
+
 // P7.6: what a key has, against sets of writes.
 func TestAgainstWrites(t *testing.T) {
 	r := rand.New(rand.NewSource(7))
