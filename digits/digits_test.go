@@ -8,7 +8,7 @@ import (
 )
 
 func TestBytes(t *testing.T) {
-	for s, b := range map[string][]byte{".": nil, "00": {0}, "6b0fff": {0x6b, 0x0f, 0xff}} {
+	for s, b := range map[string][]byte{".": nil, "00": {0}, "6b0fff": {0x6b, 0x0f, 0xff}, "09af90": {0x09, 0xaf, 0x90}} {
 		if digits.Bytes(b) != s {
 			t.Error(s, digits.Bytes(b))
 		}

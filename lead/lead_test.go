@@ -329,6 +329,9 @@ func TestNextSketch(t *testing.T) {
 		{func(n int, s *iblt.Sketch) { s.Add(own) }, 2, true},        // of Minus, but a mark of the pin
 	} {
 		l, asks, wants := asked(t, a.Clone(), theirs, c.change)
+		if guess, _ := strata.Guess(l.Pin().Strata(), theirs.Strata()); asks[0] != sizes.Cells(guess) {
+			t.Error(i, "another size", asks[0], guess)
+		}
 		if used, pages := l.Used(); len(asks) != c.asks || (wants > 0) != c.wants || used != c.asks || pages != wants || l.State() != api.Well || len(l.Taken()) != 10 {
 			t.Error(i, asks, wants, used, pages, l.State())
 		}
@@ -365,6 +368,9 @@ func TestSaysNothing(t *testing.T) {
 			}
 			if m.Kind != api.Hello {
 				wrong = append(wrong, api.Msg{Kind: api.Meet, Sid: 9})
+			}
+			if m.Kind == api.Ask {
+				wrong = append(wrong, m, api.Msg{Kind: api.Cells, Sid: 9, Size: sizes.Next(m.Size), Part: m.Part, Cells: answer(theirs, api.Msg{Kind: api.Ask, Sid: 9, Size: sizes.Next(m.Size)}, nil).Cells})
 			}
 			if m.Kind == api.Want {
 				wrong = append(wrong, api.Msg{Kind: api.Leaf, Sid: 9, Page: api.Page{Marks: []api.Mark{{8: 0x80}}, Kids: make([]api.Mark, 2)}})
