@@ -52,6 +52,50 @@ func TestNew(t *testing.T) {
 	}
 }
 
+// P37.1: lines of no form are told so ahead of a realm that there isn't; lines of a form are not looked at any further.
+func TestFormsWithoutRealm(t *testing.T) {
+	c := console.New()
+	for _, line := range formed {
+		told(t, c, line, "error 24")
+	}
+	for _, line := range formless {
+		told(t, c, line, "error 11")
+	}
+	told(t, c, "", "", "#", "", "#put", "", "new", "error 11", "new 2 9 5 1 1 1048577", "error 11")
+	if c.Realm() != nil {
+		t.Error("a realm")
+	}
+	told(t, c, "new 2 9 5 1 1 50", "ok")
+	for _, line := range formless {
+		told(t, c, line, "error 11")
+	}
+	for _, line := range formed {
+		if got := c.Do(line); got == "error 11" || got == "error 24" {
+			t.Errorf("%q: %q", line, got)
+		}
+	}
+	if got := console.New().Run("same\n\n#\nnone\nstore 9\nstore\n"); got != "error 24\nerror 11\nerror 24\nerror 11\n" {
+		t.Errorf("%q", got)
+	}
+}
+
+// formed lines, at least one of each row of the table but new; nodes and keys that there aren't don't take a line's form.
+var formed = []string{
+	"put 0 6b 76 0", "put 9 . . 1048576", "delete 0 6b 0", "get 0 6b", "sync 0 1", "next 9", "deliver 0", "lose 9", "double 9", "turn 9 0 01", "tick 1", "crash 1",
+	"quiet", "settle 0", "settle 1048576", "store 0", "store 1048576", "ledger 0", "ledger 9", "torn 0", "torn 9", "holds 0", "holds 9",
+	"resolve 9 6b 0", "resolve 0 . 5", "resolve 9 " + strings.Repeat("6b", 24) + " 5", "report", "closed", "verdict", "same", "met",
+}
+
+// formless lines: wrong names, too few and too many words, numbers and bytes that are none, or too great.
+var formless = []string{
+	" ", "none", "None", "2", "New", "NEW 2 9 5 1 1 50", " new 2 9 5 1 1 50", " #", "same ", " same", "same\n", "Same", "same same", "same same same", "same 0", "met 0", "quiet 0", "report 0", "closed 0", "verdict 0",
+	"settle", "settle x", "settle 01", "settle +1", "settle -1", "settle 1048577", "settle 18446744073709551616", "settle  1", "settle 1 1",
+	"store", "store ", "store -1", "store 1048577", "Store 0", "store 0 0", "ledger", "ledger x", "ledger 1048577", "torn", "torn 00", "torn 0 0", "holds", "holds 0x0", "holds 1048577",
+	"resolve", "resolve 0", "resolve 0 6b", "resolve 0 6b 6", "resolve 0 6b -1", "resolve 0 6b 00", "resolve 0 6b 0 0", "resolve 0 zz 0", "resolve 0 6B 0", "resolve 0 6 0", "resolve 0  0", "resolve x 6b 0", "resolve 1048577 6b 0", "resolve 0 " + strings.Repeat("6b", 25) + " 0", "none 0 6b 0",
+	"put", "put 0 6b 76", "put 0 6b 76 0 0", "put 1048577 6b 76 0", "put 0 6b 76 1048577", "put 0 " + strings.Repeat("6b", 25) + " 76 0", "put 0 6b " + strings.Repeat("76", 65) + " 0",
+	"delete 0 6b", "get 0", "get 0 zz", "sync 0", "sync 0 1 2", "next", "next x", "deliver", "lose -1", "double 1048577", "turn 0 0", "turn 0 0 0", "turn 0 0 .", "tick", "tick 1048577", "crash", "crash 1 1", "tock 1",
+}
+
 // P37.1: each line.
 func TestLines(t *testing.T) {
 	c := console.New()
